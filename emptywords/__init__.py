@@ -1,0 +1,1 @@
+"""Emptywords: a program ends just if a told word is empty."""

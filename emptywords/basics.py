@@ -1,0 +1,106 @@
+"""What the modules share: checks of values, texts read word by word, going on step by step."""
+
+from emptywords.errors import BadMost, BadPair
+
+MOST_STEPS = 400
+SIDES = ("right", "left")
+
+
+def is_integer(value):
+    # Python takes a bool for an int; the document does not.
+    return isinstance(value, int) and not isinstance(value, bool)
+
+
+def is_within(value, low, high):
+    """Whether any value is an integer from low to high."""
+    return is_integer(value) and low <= value <= high
+
+
+def is_pair(value):
+    """Whether any value is a PAIR."""
+    if not isinstance(value, tuple) or len(value) != 2:
+        return False
+    return is_integer(value[0]) and is_integer(value[1])
+
+
+def check_most(most):
+    if not is_within(most, 1, MOST_STEPS):
+        raise BadMost(most)
+
+
+def check_pair(pair):
+    if not is_pair(pair):
+        raise BadPair(pair)
+
+
+def numerals(low, high):
+    """The integers from low to high as texts tell them."""
+    return [str(number) for number in range(low, high + 1)]
+
+
+def word_places(line, kinds):
+    """The place of each word of the line in its kind, the sequence of those that may stand there.
+
+    None if one of the words may not stand there, or one is missing or too much.
+    """
+    # Looking words up, instead of reading them as integers, refuses 01, +1 and the like.
+    words = line.split(" ")
+    if len(words) != len(kinds):
+        return None
+    if not all([word in kind for word, kind in zip(words, kinds)]):
+        return None
+    return [kind.index(word) for word, kind in zip(words, kinds)]
+
+
+def told_number(line, name, low, high):
+    """The integer from low to high that the line tells behind the name; None if it tells none."""
+    places = word_places(line, [[name], numerals(low, high)])
+    return None if places is None else low + places[1]
+
+
+def good_rows(lines, kinds, barred):
+    """The word_places of the lines, up to the first line that cannot stand behind those ahead.
+
+    The places of words 1 and 2 make a row's key: none is among the barred ones, none stands twice.
+    """
+    taken = {key: True for key in barred}
+    rows = []
+    for line in lines:
+        places = word_places(line, kinds)
+        if places is None or (places[1], places[2]) in taken:
+            return rows
+        taken[(places[1], places[2])] = True
+        rows.append(places)
+    return rows
+
+
+def gone(step, start, most):
+    """The tuple of the first places from start on, at most most.
+
+    step is a function that tells what follows a place, None if nothing does.
+    """
+    places = [start]
+    while len(places) < most:
+        behind = step(places[-1])
+        if behind is None:
+            break
+        places.append(behind)
+    return tuple(places)
+
+
+def outcome(step, start, most):
+    """What is known of the places behind 0, 1, .. most steps from start.
+
+    ("round", first, length) if one stood behind first steps and again length steps later;
+    ("stops", steps, place) if nothing follows one; else ("on", place), the one behind most steps.
+    """
+    # One that stands again goes on for ever, so the sequence of these two tests is free.
+    places = gone(step, start, most + 1)
+    first_steps = {}
+    for steps, place in enumerate(places):
+        if place in first_steps:
+            return ("round", first_steps[place], steps - first_steps[place])
+        first_steps[place] = steps
+    if step(places[-1]) is None:
+        return ("stops", len(places) - 1, places[-1])
+    return ("on", places[-1])

@@ -1,0 +1,26 @@
+"""The examples of the document, as they stand there, and those of README.md."""
+
+import doctest
+import os
+import unittest
+
+FOLDER = os.path.join(os.path.dirname(os.path.abspath(__file__)), "examples")
+
+
+class Examples(unittest.TestCase):
+    def held(self, name, many):
+        failed, attempted = doctest.testfile(os.path.join(FOLDER, name), module_relative=False)
+        self.assertEqual((failed, attempted), (0, many))
+
+    def test_section_4(self):
+        self.held("section_4.txt", 11)
+
+    def test_section_5(self):
+        self.held("section_5.txt", 10)
+
+    def test_readme(self):
+        self.held(os.path.join("..", "..", "README.md"), 10)
+
+
+if __name__ == "__main__":
+    unittest.main()

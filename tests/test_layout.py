@@ -1,0 +1,61 @@
+"""The interface's names stand in their files; sizes and signs of the files."""
+
+import ast
+import inspect
+import os
+import unittest
+
+import emptywords
+from emptywords import errors, pairs, strips
+
+FOLDER = os.path.dirname(os.path.abspath(emptywords.__file__))
+PARAMETERS = {
+    strips: {"Strip": "text", "follows": "strip standing", "run": "strip standing most",
+             "fate": "strip standing most", "backs": "strip standing"},
+    pairs: {"Machine": "text", "goes": "machine pair", "follows": "machine pair", "backs": "machine pair",
+            "run": "machine pair most", "comes": "machine pair most"},
+}
+
+
+def sources():
+    for name in sorted(os.listdir(FOLDER)):
+        if name.endswith(".py"):
+            with open(os.path.join(FOLDER, name), encoding="utf-8") as file:
+                yield name, file.read()
+
+
+class Layout(unittest.TestCase):
+    def test_names_are_defined_in_their_files_with_their_parameters(self):
+        for module, told in PARAMETERS.items():
+            for name, parameters in told.items():
+                with self.subTest(name, module=module.__name__):
+                    look = getattr(module, name)
+                    self.assertEqual(look.__module__, module.__name__)
+                    self.assertEqual(list(inspect.signature(look).parameters), parameters.split(" "))
+
+    def test_errors_are_defined_in_their_file(self):
+        for name in ("WordError", "BadMost", "BadTask"):
+            self.assertEqual(getattr(errors, name).__module__, "emptywords.errors")
+
+    def test_sizes_and_signs(self):
+        for name, text in sources():
+            with self.subTest(name):
+                self.assertLessEqual(text.count("\n"), 399)
+                for line in text.split("\n"):
+                    self.assertLessEqual(len(line), 120)
+                    self.assertTrue(all(" " <= sign <= "~" for sign in line))
+                for node in ast.walk(ast.parse(text)):
+                    if isinstance(node, ast.FunctionDef):
+                        self.assertLessEqual(node.end_lineno - node.lineno + 1, 40)
+
+    def test_imports_come_from_the_package_alone(self):
+        for name, text in sources():
+            for node in ast.walk(ast.parse(text)):
+                with self.subTest(name):
+                    self.assertNotIsInstance(node, ast.Import)
+                    if isinstance(node, ast.ImportFrom):
+                        self.assertEqual((node.level, node.module.split(".")[0]), (0, "emptywords"))
+
+
+if __name__ == "__main__":
+    unittest.main()
