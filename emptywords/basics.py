@@ -4,6 +4,7 @@ from emptywords.errors import BadMost, BadPair
 
 MOST_STEPS = 400
 SIDES = ("right", "left")
+FIGURES = "0123456789"
 
 
 def is_integer(value):
@@ -23,6 +24,16 @@ def is_pair(value):
     return is_integer(value[0]) and is_integer(value[1])
 
 
+def is_power(value):
+    """Whether any value is an integer but 0."""
+    return is_integer(value) and value != 0
+
+
+def is_sign(value):
+    """Whether any value is 1 or -1."""
+    return is_integer(value) and value in (1, -1)
+
+
 def check_most(most):
     if not is_within(most, 1, MOST_STEPS):
         raise BadMost(most)
@@ -36,6 +47,37 @@ def check_pair(pair):
 def numerals(low, high):
     """The integers from low to high as texts tell them."""
     return [str(number) for number in range(low, high + 1)]
+
+
+def is_numeral(word):
+    """Whether the string tells an integer from 0 on, as Python writes it."""
+    # Not isdigit, which takes figures of other scripts, too.
+    if word == "" or not all([sign in FIGURES for sign in word]):
+        return False
+    return word[0] != "0" or word == "0"
+
+
+def told_integer(word):
+    """The integer that the string tells, as Python writes it; None if it tells none."""
+    figures = word.removeprefix("-")
+    if not is_numeral(figures) or word == "-0":
+        return None
+    # Figure by figure, as int refuses strings of more than 4300 figures.
+    number = 0
+    for figure in figures:
+        number = number * 10 + int(figure)
+    return number if figures == word else -number
+
+
+def integer_text(number):
+    """The integer as Python writes it."""
+    # Part by part, as str refuses integers of more than 4300 figures.
+    parts, left = [], abs(number)
+    while left >= 10 ** 60:
+        left, part = divmod(left, 10 ** 60)
+        parts.append(str(part).zfill(60))
+    parts.append(str(left))
+    return ("-" if number < 0 else "") + "".join(reversed(parts))
 
 
 def word_places(line, kinds):

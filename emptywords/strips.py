@@ -103,10 +103,10 @@ def _behind(strip, standing):
     """What follows, the values being checked."""
     state, left, right = standing
     for row_state, row_mark, written, side, then in strip.rows:
-        if row_state == state and row_mark == _first(right):
+        if row_state == state and row_mark == first_mark(right):
             if side == "right":
-                return (then, _trimmed((written,) + left), right[1:])
-            return (then, left[1:], _trimmed((_first(left), written) + right[1:]))
+                return (then, trimmed((written,) + left), right[1:])
+            return (then, left[1:], trimmed((first_mark(left), written) + right[1:]))
     return None
 
 
@@ -115,20 +115,20 @@ def _ahead(row, standing):
     state, mark, written, side, then = row
     here, left, right = standing
     if side == "right":
-        cell, left_then, right_then = _first(left), left[1:], right
+        cell, left_then, right_then = first_mark(left), left[1:], right
     else:
-        cell, left_then, right_then = _first(right[1:]), (_first(right),) + left, right[2:]
+        cell, left_then, right_then = first_mark(right[1:]), (first_mark(right),) + left, right[2:]
     if here != then or cell != written:
         return None
-    return (state, _trimmed(left_then), _trimmed((mark,) + right_then))
+    return (state, trimmed(left_then), trimmed((mark,) + right_then))
 
 
-def _first(marks):
+def first_mark(marks):
     """The mark of the first cell; beyond those that are told all are blank."""
     return marks[0] if marks else 0
 
 
-def _trimmed(marks):
+def trimmed(marks):
     """The marks without the blanks at their far end."""
     end = len(marks)
     while end > 0 and marks[end - 1] == 0:

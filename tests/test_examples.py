@@ -18,8 +18,20 @@ class Examples(unittest.TestCase):
     def test_section_5(self):
         self.held("section_5.txt", 10)
 
+    def test_section_6(self):
+        self.held("section_6.txt", 9)
+
+    def test_section_7(self):
+        self.held("section_7.txt", 9)
+
+    def test_section_8(self):
+        self.held("section_8.txt", 10)
+
+    def test_section_9(self):
+        self.held("section_9.txt", 12)
+
     def test_readme(self):
-        self.held(os.path.join("..", "..", "README.md"), 10)
+        self.held(os.path.join("..", "..", "README.md"), 25)
 
 
 if __name__ == "__main__":

@@ -6,7 +6,7 @@ import os
 import unittest
 
 import emptywords
-from emptywords import errors, pairs, strips
+from emptywords import books, errors, ground, leading, pairs, strips, words
 
 FOLDER = os.path.dirname(os.path.abspath(emptywords.__file__))
 PARAMETERS = {
@@ -14,6 +14,17 @@ PARAMETERS = {
              "fate": "strip standing most", "backs": "strip standing"},
     pairs: {"Machine": "text", "goes": "machine pair", "follows": "machine pair", "backs": "machine pair",
             "run": "machine pair most", "comes": "machine pair most"},
+    leading: {"led": "strip", "pairs_of": "strip standing", "standing_of": "strip pair",
+              "run_led": "strip standing most", "ends_with": "strip standing most"},
+    words: {"freed": "machine word", "undone": "machine word", "moved": "pair power", "word_text": "machine word",
+            "read_word": "machine text"},
+    ground: {"form": "word", "form_word": "form", "times": "one other", "form_undone": "form",
+             "moved_form": "form pair", "ground_alike": "one other", "ground_paper": "word",
+             "shows_ground_paper": "word value"},
+    books: {"row_word": "machine row", "worth": "machine row", "book": "machine",
+            "exchanged": "machine word exchange", "product_word": "machine product",
+            "is_product": "machine word value", "singles": "machine product",
+            "product_of": "machine word exchanges"},
 }
 
 

@@ -4,7 +4,7 @@ import itertools
 import unittest
 
 from emptywords.strips import Strip, backs, fate, follows, run
-from tests.helping import SWING, WIPE, StrictCase
+from tests.helping import SWING, WIPE, StrictCase, standings
 
 WIDE = "marks 3\nstates 2\nrow 0 0 2 right 1\nrow 0 1 0 left 0\nrow 0 2 1 left end\nrow 1 0 1 left 0\nrow 1 2 0 right 1"
 MERGE = "marks 2\nstates 2\nrow 0 0 1 right 1\nrow 0 1 1 right 1\nrow 1 1 1 left 1\nrow 1 0 0 left end"
@@ -12,19 +12,6 @@ GROW = "marks 2\nstates 1\nrow 0 0 1 right 0"
 BUSY = "marks 2\nstates 2\nrow 0 0 1 right 1\nrow 0 1 1 left 1\nrow 1 0 1 left 0\nrow 1 1 1 right end"
 LATE = "marks 2\nstates 2\nrow 0 1 0 right 0\nrow 0 0 0 right 1\nrow 1 0 0 left 0"
 TEXTS = (WIPE, SWING, WIDE, MERGE, GROW, BUSY, LATE)
-
-
-def sides(marks, longest):
-    """All tuples of marks, up to this length, that end ahead of where all is blank."""
-    found = [()]
-    for length in range(1, longest + 1):
-        found += [side for side in itertools.product(range(marks), repeat=length) if side[-1] != 0]
-    return found
-
-
-def standings(strip, longest):
-    some = sides(strip.marks, longest)
-    return [place for place in itertools.product(range(strip.states + 1), some, some)]
 
 
 def read_side(cells, numbers):
