@@ -227,3 +227,21 @@ def product_of(machine, word, exchanges):
     if left:
         raise NotEmpty(left)
     return tuple(product)
+
+
+class Scroll:
+    """A PRODUCT in the making: what was put so far is, letter by letter, the word of parts with ahead behind it."""
+
+    def __init__(self, machine):
+        self.machine = machine
+        self.parts = []
+        self.ahead = []
+
+    def put(self, word):
+        """Put the word behind; its powers may be 0."""
+        put_word(self.ahead, word)
+
+    def turn(self, row, sign):
+        """Write the row down, moved by ahead, and put its word behind ahead with the other sign."""
+        self.parts.append((tuple(self.ahead), row, sign))
+        self.put(_signed(told_word(self.machine, row), -sign))

@@ -83,18 +83,43 @@ def ground_alike(one, other):
     return form_of(one) == form_of(other)
 
 
-def form_of(word):
-    """The FORM of the ground word, the values being checked."""
-    ts, p, q = [], 0, 0
-    for letter, power in word:
+class OpenForm:
+    """A FORM behind which more is put: ts is the list of its moved t's, p and q are its lengths."""
+
+    def __init__(self):
+        self.ts = []
+        self.p = 0
+        self.q = 0
+
+    def put(self, letter, power):
+        """Put a syllable of x, y or t behind."""
         if letter == "x":
-            p = p + power
+            self.p += power
         elif letter == "y":
-            q = q + power
+            self.q += power
         else:
             # t behind x p y q is t moved by (-p, -q) ahead of it.
-            ts.append(((-p, -q), power))
-    return (_free_ts(ts), p, q)
+            put_part(self.ts, (-self.p, -self.q), power, True)
+
+    def put_form(self, form):
+        """Put the FORM's word behind."""
+        ts, p, q = form
+        for pair, power in _shifted(ts, -self.p, -self.q):
+            put_part(self.ts, pair, power, True)
+        self.p += p
+        self.q += q
+
+    def told(self):
+        """The FORM as it is now."""
+        return (tuple(self.ts), self.p, self.q)
+
+
+def form_of(word):
+    """The FORM of the ground word, the values being checked."""
+    here = OpenForm()
+    for letter, power in word:
+        here.put(letter, power)
+    return here.told()
 
 
 def word_of_form(form):
@@ -110,22 +135,15 @@ def word_of_form(form):
 
 def forms_joined(one, other):
     """The FORM of one's word with other's behind it, the values being checked."""
-    ts, p, q = one
-    other_ts, other_p, other_q = other
-    return (_free_ts(ts + _shifted(other_ts, -p, -q)), p + other_p, q + other_q)
+    here = OpenForm()
+    here.put_form(one)
+    here.put_form(other)
+    return here.told()
 
 
 def _shifted(ts, r, s):
     """The moved t's, moved by (r, s), too."""
     return tuple([((pair[0] + r, pair[1] + s), power) for pair, power in ts])
-
-
-def _free_ts(ts):
-    """The tuple of the moved t's, neighbours with one PAIR made one, as often as it can be done."""
-    kept = []
-    for pair, power in ts:
-        put_part(kept, pair, power, True)
-    return tuple(kept)
 
 
 def ground_paper(word):

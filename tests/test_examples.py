@@ -30,8 +30,17 @@ class Examples(unittest.TestCase):
     def test_section_9(self):
         self.held("section_9.txt", 12)
 
+    def test_section_10(self):
+        self.held("section_10.txt", 15)
+
+    def test_section_11(self):
+        self.held("section_11.txt", 16)
+
+    def test_section_12(self):
+        self.held("section_12.txt", 14)
+
     def test_readme(self):
-        self.held(os.path.join("..", "..", "README.md"), 25)
+        self.held(os.path.join("..", "..", "README.md"), 40)
 
 
 if __name__ == "__main__":

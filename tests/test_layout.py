@@ -6,7 +6,7 @@ import os
 import unittest
 
 import emptywords
-from emptywords import books, errors, ground, leading, pairs, strips, words
+from emptywords import books, errors, ground, hands, leading, pairs, spelling, strips, top, words
 
 FOLDER = os.path.dirname(os.path.abspath(emptywords.__file__))
 PARAMETERS = {
@@ -25,6 +25,14 @@ PARAMETERS = {
             "exchanged": "machine word exchange", "product_word": "machine product",
             "is_product": "machine word value", "singles": "machine product",
             "product_of": "machine word exchanges"},
+    hands: {"passed": "machine hand form way", "lacks": "machine hand form way", "tower": "machine word",
+            "tower_word": "machine tower", "hands_of": "machine tower", "is_empty": "machine word",
+            "alike": "machine one other", "why": "machine word", "shows_why": "machine word value"},
+    spelling: {"hands_word": "machine pair most", "spelled_word": "machine pair most",
+               "spelled_paper": "machine pair most", "led_by": "machine pair hands", "run_in": "machine hands",
+               "linked": "machine one other most", "linking_paper": "machine one other most"},
+    top: {"lot": "machine word most", "shows_lot": "machine word most value", "verdict": "machine word most",
+          "top_why": "machine word most", "shows_top_why": "machine word most value", "word_of_pair": "pair"},
 }
 
 
