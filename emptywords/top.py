@@ -33,10 +33,8 @@ def shows_lot(machine, word, most, value):
 
 def _is_told(value, told):
     """Whether any value is ("out",) or ("open", PAIR), as it is told."""
-    if not isinstance(value, tuple) or value != told:
-        return False
     # True is not 1, though Python has them equal.
-    return told[0] == "out" or is_pair(value[1])
+    return value == told and (told[0] == "out" or is_pair(value[1]))
 
 
 def _lot_by_pieces(machine, word, most):
