@@ -130,6 +130,14 @@ def gone(step, start, most):
     return tuple(places)
 
 
+def first_steps(places):
+    """Behind how many steps each of the places stands first."""
+    steps_of = {}
+    for steps, place in enumerate(places):
+        steps_of.setdefault(place, steps)
+    return steps_of
+
+
 def outcome(step, start, most):
     """What is known of the places behind 0, 1, .. most steps from start.
 
@@ -138,11 +146,10 @@ def outcome(step, start, most):
     """
     # One that stands again goes on for ever, so the sequence of these two tests is free.
     places = gone(step, start, most + 1)
-    first_steps = {}
+    steps_of = first_steps(places)
     for steps, place in enumerate(places):
-        if place in first_steps:
-            return ("round", first_steps[place], steps - first_steps[place])
-        first_steps[place] = steps
+        if steps_of[place] < steps:
+            return ("round", steps_of[place], steps - steps_of[place])
     if step(places[-1]) is None:
         return ("stops", len(places) - 1, places[-1])
     return ("on", places[-1])

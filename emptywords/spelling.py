@@ -1,6 +1,6 @@
 """Spelled runs: the hands of a run, one behind another, lead t moved by its first pair to its last one."""
 
-from emptywords.basics import check_pair
+from emptywords.basics import check_pair, first_steps
 from emptywords.errors import BadWord, NoRun, NotEnded
 from emptywords.hands import emptying, hand_number, pair_passed
 from emptywords.pairs import check_machine, comes, goes, run
@@ -74,27 +74,19 @@ def linked(machine, one, other, most):
     check_pair(one)
     check_pair(other)
     places, other_places = run(machine, one, most), run(machine, other, most)
-    first_steps = _first_steps(other_places)
+    behind = first_steps(other_places)
     for steps, place in enumerate(places):
-        if place in first_steps:
+        if place in behind:
             hands = _hands_by(machine, places[:steps])
-            return ("meet", hands + undo_word(_hands_by(machine, other_places[:first_steps[place]])))
+            return ("meet", hands + undo_word(_hands_by(machine, other_places[:behind[place]])))
     if _is_known(places, most) and _is_known(other_places, most):
         return ("apart",)
     return ("open",)
 
 
-def _first_steps(places):
-    """Behind how many steps each of the PAIRS stands first."""
-    first_steps = {}
-    for steps, place in enumerate(places):
-        first_steps.setdefault(place, steps)
-    return first_steps
-
-
 def _is_known(places, most):
     """Whether the run's PAIRS tell all that come: it stops, or it goes round."""
-    return len(places) < most or len(_first_steps(places)) < len(places)
+    return len(places) < most or len(first_steps(places)) < len(places)
 
 
 def linking_paper(machine, one, other, most):

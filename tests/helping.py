@@ -4,6 +4,8 @@ import itertools
 import random
 import unittest
 
+from emptywords.benches import Bench
+from emptywords.desk import Desk
 from emptywords.pairs import Machine
 from emptywords.strips import Strip
 
@@ -28,6 +30,7 @@ def any_values():
         [], [1], [1, 2], [0, (), ()], [[]],
         {}, {1: 2}, {0: (), 1: ()}, {"text": WIPE},
         Strip(WIPE), Machine(SMALL), (Strip(WIPE),), [Machine(SMALL)], {"value": Strip(SWING)},
+        Bench(SMALL), Desk(SMALL + "\ndeeds"), (Bench(SMALL),), [Desk(SMALL + "\ndeeds")],
         nested(60, lambda value: (value,)), nested(60, lambda value: [value]), nested(60, lambda value: {1: value}),
     ]
 

@@ -39,8 +39,14 @@ class Examples(unittest.TestCase):
     def test_section_12(self):
         self.held("section_12.txt", 14)
 
+    def test_section_13(self):
+        self.held("section_13.txt", 9)
+
+    def test_section_14(self):
+        self.held("section_14.txt", 10)
+
     def test_readme(self):
-        self.held(os.path.join("..", "..", "README.md"), 40)
+        self.held(os.path.join("..", "..", "README.md"), 60)
 
 
 if __name__ == "__main__":

@@ -6,7 +6,8 @@ import os
 import unittest
 
 import emptywords
-from emptywords import books, errors, ground, hands, leading, pairs, spelling, strips, top, words
+from emptywords import benches, books, chains, desk, errors, ground, hands, journals, leading, pairs, spelling
+from emptywords import strips, top, words
 
 FOLDER = os.path.dirname(os.path.abspath(emptywords.__file__))
 PARAMETERS = {
@@ -33,6 +34,17 @@ PARAMETERS = {
                "linked": "machine one other most", "linking_paper": "machine one other most"},
     top: {"lot": "machine word most", "shows_lot": "machine word most value", "verdict": "machine word most",
           "top_why": "machine word most", "shows_top_why": "machine word most value", "word_of_pair": "pair"},
+    chains: {"dents": "strip chain", "straight": "strip chain", "joined": "strip one other most"},
+    benches: {"Bench": "text"},
+    journals: {"journal": "bench", "read_journal": "text"},
+    desk: {"Desk": "text"},
+}
+METHODS = {
+    benches.Bench: {"begin": "self word", "exchange": "self at cut row sign", "product": "self", "verdict": "self most", "undo": "self",
+                    "redo": "self", "tried": "self look keep", "keep": "self", "copy": "self", "__len__": "self", "__eq__": "self other"},
+    desk.Desk: {"say": "self line"},
+    pairs.Machine: {"__eq__": "self other"},
+    strips.Strip: {"__eq__": "self other"},
 }
 
 
@@ -51,6 +63,22 @@ class Layout(unittest.TestCase):
                     look = getattr(module, name)
                     self.assertEqual(look.__module__, module.__name__)
                     self.assertEqual(list(inspect.signature(look).parameters), parameters.split(" "))
+
+    def test_methods_are_defined_in_their_classes(self):
+        for owner, told in METHODS.items():
+            for name, parameters in told.items():
+                with self.subTest(name, owner=owner.__name__):
+                    self.assertEqual(list(inspect.signature(vars(owner)[name]).parameters), parameters.split(" "))
+        keep = inspect.signature(benches.Bench.tried).parameters["keep"]
+        self.assertEqual((keep.kind, keep.default), (inspect.Parameter.KEYWORD_ONLY, False))
+
+    def test_properties_are_set_when_objects_are_made(self):
+        text = "figures 2\nrow 1 0 0 right"
+        for made, names in ((strips.Strip("marks 2\nstates 1\nrow 0 0 0 left 0"), "text marks states rows"),
+                            (pairs.Machine(text), "text figures rows"), (benches.Bench(text), "machine beginning word deeds"),
+                            (desk.Desk(text + "\ndeeds"), "bench")):
+            for name in names.split(" "):
+                self.assertIn(name, vars(made))
 
     def test_errors_are_defined_in_their_file(self):
         for name in ("WordError", "BadMost", "BadTask"):
