@@ -1,6 +1,6 @@
 """Chains of steps of a strip, forth and back: all detours are needless."""
 
-from emptywords.basics import check_most, first_steps
+from emptywords.basics import first_steps
 from emptywords.errors import BadChain
 from emptywords.strips import check_standing, check_strip, fate, follows, is_standing, run
 
@@ -46,9 +46,9 @@ def straight(strip, chain):
 
 def joined(strip, one, other, most):
     """("meet", i, j), the least steps behind which both runs meet, ("apart",) or ("open",)."""
+    # BadMost comes of run, behind all others.
     check_standing(strip, one)
     check_standing(strip, other)
-    check_most(most)
     behind = first_steps(_steps_from(strip, other, most))
     for steps, standing in enumerate(_steps_from(strip, one, most)):
         if standing in behind:

@@ -5,7 +5,7 @@ from emptywords.books import Scroll, is_product
 from emptywords.errors import BadHand, BadTower, BadWay, HasK, IsPassed
 from emptywords.ground import OpenForm, check_form, is_form, word_of_form
 from emptywords.pairs import check_machine
-from emptywords.words import GROUND_LETTERS, check_word, free_word, is_word, move_t, put_word, undo_word
+from emptywords.words import GROUND_LETTERS, check_word, is_word, move_t, put_word, undo_word
 
 NOTHING = ((), 0, 0)
 
@@ -313,7 +313,7 @@ class Pinch:
             return
         power = times * self.scales[0][0]
         if y != 0:
-            # Behind the hand x goes out of y, which it could not pass with it.
+            # Behind the first of both hands x goes out of y, so that it stands beside the hand.
             self.scroll.put(((self.letter, -self.way),))
             self.scroll.turn(("xy", power, -y), -1)
             self.scroll.put((("y", -y), ("x", power), ("y", y), ("x", -power), (self.letter, self.way)))
@@ -322,7 +322,8 @@ class Pinch:
     def lead(self, row, word):
         """Put what the word becomes by this row, as it goes by the hand."""
         undoing = ((self.letter, -self.way),)
-        # The row's word begins with the hand undone: so this is put ahead of it, if it stands with 1.
+        # The row's word begins with the hand undone. So if that comes first here, the row is moved by what is ahead
+        # of it; if the hand itself comes first, the row is moved by this, too.
         if self.way == -1:
             self.scroll.put(undoing)
             self.scroll.turn(row, -1)

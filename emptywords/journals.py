@@ -64,8 +64,7 @@ def read_journal(text):
     if "deeds" not in lines:
         raise BadJournal(len(lines) + 1)
     at = lines.index("deeds")
-    if at == 0:
-        raise BadJournal(1)
+    # If none stands ahead, this is the text without signs: its line 1 is at fault, which is that of deeds.
     bench = _told_bench("\n".join(lines[:at]))
     for number, line in enumerate(lines[at + 1:]):
         if not _is_done(bench, told_deed(line)):

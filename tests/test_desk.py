@@ -100,7 +100,8 @@ class Said(StrictCase):
                                      "verdict", "verdict ", "verdict x", "verdict 01", "verdict +1", "verdict -0", "verdict  1", "verdict 1 ", " verdict 1", "verdict 1 1",
                                      "verdict 1.0", "singles ", "singles 1", "Singles", "deeds", "journal", "none", "done", "keep", "copy", "product",
                                      "begin x", "begin x 01", "begin x +1", "begin x -0", "begin  x 1", "begin x 1 ", " begin", "begin ", "exchange 0 0 1", "exchange",
-                                     "exchange 0 0 1 xy 1 -0", "exchange 0 0 1 xy 1 a", "exchange 0 0 01 xy 1 1", "exchange 0  0 1 xy 1 1"]:
+                                     "exchange 0 0 1 xy 1 -0", "exchange 0 0 1 xy 1 a", "exchange 0 0 01 xy 1 1", "exchange 0  0 1 xy 1 1", "begin  1", "begin x 1  2", "exchange 0 0 1 ", "exchange 0 0 1  1",
+                                     "begin x\ny 1", "exchange 0 0 1 x\ny", "exchange 0 0 1 x\ny 1 1"]:
             with self.subTest(wrong):
                 self.refused(BadTask, wrong, desk.say, wrong)
         self.same(all_of(desk.bench), ahead)
