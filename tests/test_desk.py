@@ -24,6 +24,9 @@ class Made(StrictCase):
         self.same(journal(Desk(text=text).bench), text)
 
     def test_no_journal(self):
+        for wrong in any_values():
+            if not isinstance(wrong, str):
+                self.refused_number(BadJournal, 0, Desk, wrong)
         for text, number in ((None, 0), (7, 0), (Bench(TWO), 0), ("", 2), (TWO, 4), ("deeds", 1), ("figures 2\ndeeds", 2), (HEAD + "\nbegin x", 5), (HEAD + "\n", 5)):
             self.refused_number(BadJournal, number, Desk, text)
 

@@ -144,6 +144,16 @@ class Lot(StrictCase):
         self.same(lot(SOME, (("h2", 1),) + other, 9), ("open", (0, 3)))
         self.same(lot(SOME, (("h2", 1), ("x", 1)) + other + (("x", -1),), 9), ("out",))
 
+    def test_open_behind_later_hands(self):
+        other = moved((0, 3), -2)
+        self.same(lot(SOME, (("h2", 1), ("t", 2), ("h0", -1)) + other, 9), ("open", (0, 3)))
+        self.same(lot(SOME, moved((2, 1), 1) + (("h1", 1),) + moved((0, 1), 1) + (("h0", 1),) + other, 9), ("open", (0, 1)))
+        # (6, 1) never ends; it goes by h1 as (3, 3), which never ends, and by h2 as (5, 1).
+        self.same(comes(SOME, (6, 1), 9)[0], "never")
+        word = moved((6, 1), 1) + (("h1", 1), ("h2", 1))
+        self.same([lot(SOME, word, 9), lot(SOME, word + moved((5, 1), -1) + other, 9)], [("out",), ("open", (0, 3))])
+        self.same(lot(SOME, word + other, 9), ("out",))
+
     def test_asked_behind_a_hand_again(self):
         # (3, 0) never ends, so it goes by h0, and (4, 0), which it becomes, never ends either.
         self.same(by_the_document(SOME, moved((3, 0), 1) + (("h0", 1),) + moved((0, 1), 1), 9), (("out",), [(3, 0), (4, 0)]))
